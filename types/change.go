@@ -2,14 +2,14 @@ package types
 
 import (
 	"slices"
-	"strconv"
 
 	"savant/api"
+	"savant/naming"
 )
 
 // Canon is t's text with its canonical names.
 func (t Type) Canon() string {
-	next := newNames(t.Free())
+	next := naming.New("x", naming.Set(t.Free()))
 	bind := func(string) string { return next() }
 	return t.changed(bind, func(l Type) Type { return l }).Print()
 }
@@ -31,7 +31,7 @@ func (t Type) changedWithin(bound map[string]Type, bind func(name string) string
 		return leaf(t)
 	case api.All:
 		name := bind(t.Name)
-		defer cover(bound, t.Name, variable(name))()
+		defer naming.Cover(bound, t.Name, variable(name))()
 		t.Name = name
 	}
 	// t is a copy of what was handed in, but its list is not, and must stay as it is.
@@ -40,27 +40,4 @@ func (t Type) changedWithin(bound map[string]Type, bind func(name string) string
 		t.Args[i] = a.changedWithin(bound, bind, leaf)
 	}
 	return t
-}
-
-// newNames makes the closure that tells x0, x1, x2 and so on, one each time it is called, but passes over those that are taken.
-func newNames(taken []string) (next func() string) {
-	isTaken := set(taken)
-	n := 0
-	return func() string {
-		for {
-			name := "x" + strconv.Itoa(n)
-			n++
-			if _, no := isTaken[name]; !no {
-				return name
-			}
-		}
-	}
-}
-
-func set(names []string) map[string]struct{} {
-	s := map[string]struct{}{}
-	for _, name := range names {
-		s[name] = struct{}{}
-	}
-	return s
 }

@@ -1,9 +1,8 @@
 package types
 
 import (
-	"slices"
-
 	"savant/api"
+	"savant/naming"
 )
 
 // Put is t with u in the place of each free variable of that name.
@@ -23,9 +22,9 @@ func (t Type) put(u Type, isPlace func(l Type) bool) Type {
 		return t
 	}
 	free := u.Free()
-	isFree := set(free)
+	isFree := naming.Set(free)
 	// A new name must not be bound again within what it is put into, nor stand for something there already.
-	next := newNames(slices.Concat(free, t.names()))
+	next := naming.New("x", naming.Set(free, t.names()))
 	bind := func(name string) string {
 		places := within[0]
 		within = within[1:]

@@ -1,6 +1,9 @@
 package types
 
-import "savant/api"
+import (
+	"savant/api"
+	"savant/naming"
+)
 
 // Same tells whether t and u are alike but for the names that are bound.
 func (t Type) Same(u Type) bool {
@@ -28,8 +31,8 @@ func (p *pair) same(t, u Type) bool {
 		return t.Name == u.Name && p.sameArgs(t, u)
 	case api.All:
 		p.met++
-		defer cover(p.left, t.Name, p.met)()
-		defer cover(p.right, u.Name, p.met)()
+		defer naming.Cover(p.left, t.Name, p.met)()
+		defer naming.Cover(p.right, u.Name, p.met)()
 	}
 	return p.sameArgs(t, u)
 }

@@ -1,6 +1,9 @@
 package types
 
-import "savant/api"
+import (
+	"savant/api"
+	"savant/naming"
+)
 
 // through goes through t in the order in which it is written. Each part is handed to come, and to leave when all that stands within it is done; both times bound has the names that the for alls around the part bind.
 func (t Type) through(bound map[string]int, come, leave func(part Type)) {
@@ -11,23 +14,10 @@ func (t Type) through(bound map[string]int, come, leave func(part Type)) {
 
 func (t Type) throughArgs(bound map[string]int, come, leave func(part Type)) {
 	if t.Kind == api.All {
-		defer cover(bound, t.Name, 1)()
+		defer naming.Cover(bound, t.Name, 1)()
 	}
 	for _, a := range t.Args {
 		a.through(bound, come, leave)
-	}
-}
-
-// cover lets a name stand for v, and answers what lets it stand again for what it did before.
-func cover[V any](bound map[string]V, name string, v V) (uncover func()) {
-	old, was := bound[name]
-	bound[name] = v
-	return func() {
-		if was {
-			bound[name] = old
-		} else {
-			delete(bound, name)
-		}
 	}
 }
 
