@@ -5,27 +5,28 @@ import (
 	"strings"
 
 	"savant/api"
+	"savant/reading"
 )
 
 // Read reads a type that stands at the begin of tokens, as far as it goes; rest is what stands behind it.
 func Read(l []api.Token) (t Type, rest []api.Token, ok bool) {
-	r := reader{rest: l}
+	r := reader{reading.Tokens{Rest: l}}
 	t, ok = r.whole()
 	if !ok {
 		return Type{}, nil, false
 	}
-	return t, r.rest, true
+	return t, r.Rest, true
 }
 
-// reader has the tokens that are still to be read. Its methods read one piece of the grammar each, and tell whether it stood there.
-type reader struct{ rest []api.Token }
+// reader has methods that read one piece of the grammar each, and tell whether it stood there.
+type reader struct{ reading.Tokens }
 
 func (r *reader) whole() (Type, bool) {
-	if r.take(api.TokKey, "forall") {
+	if r.Take(api.TokKey, "forall") {
 		return r.forAll()
 	}
 	from, ok := r.app()
-	if !ok || !r.take(api.TokSign, "->") {
+	if !ok || !r.Take(api.TokSign, "->") {
 		return from, ok
 	}
 	to, ok := r.whole()
@@ -35,10 +36,10 @@ func (r *reader) whole() (Type, bool) {
 // forAll reads what stands behind the word forall.
 func (r *reader) forAll() (Type, bool) {
 	var names []string
-	for r.next().Kind == api.TokVar {
-		names = append(names, r.word())
+	for name, ok := r.TakeAny(api.TokVar); ok; name, ok = r.TakeAny(api.TokVar) {
+		names = append(names, name)
 	}
-	if len(names) == 0 || !r.take(api.TokSign, ".") {
+	if len(names) == 0 || !r.Take(api.TokSign, ".") {
 		return Type{}, false
 	}
 	t, ok := r.whole()
@@ -49,10 +50,11 @@ func (r *reader) forAll() (Type, bool) {
 }
 
 func (r *reader) app() (Type, bool) {
-	if r.next().Kind != api.TokCon {
+	name, ok := r.TakeAny(api.TokCon)
+	if !ok {
 		return r.atom()
 	}
-	t := Type{Kind: api.Con, Name: r.word()}
+	t := Type{Kind: api.Con, Name: name}
 	for r.atAtom() {
 		a, ok := r.atom()
 		if !ok {
@@ -64,59 +66,31 @@ func (r *reader) app() (Type, bool) {
 }
 
 func (r *reader) atAtom() bool {
-	switch r.next().Kind {
+	switch r.Next().Kind {
 	case api.TokVar, api.TokMeta, api.TokCon:
 		return true
 	}
-	return r.at(api.TokSign, "(")
+	return r.At(api.TokSign, "(")
 }
 
 func (r *reader) atom() (Type, bool) {
-	switch r.next().Kind {
-	case api.TokVar:
-		return variable(r.word()), true
-	case api.TokCon:
-		return Type{Kind: api.Con, Name: r.word()}, true
-	case api.TokMeta:
-		n, err := strconv.Atoi(strings.TrimPrefix(r.word(), "?"))
+	if name, ok := r.TakeAny(api.TokVar); ok {
+		return variable(name), true
+	}
+	if name, ok := r.TakeAny(api.TokCon); ok {
+		return Type{Kind: api.Con, Name: name}, true
+	}
+	if text, ok := r.TakeAny(api.TokMeta); ok {
+		n, err := strconv.Atoi(strings.TrimPrefix(text, "?"))
 		return Type{Kind: api.Meta, N: n}, err == nil
 	}
 	return r.inParentheses()
 }
 
 func (r *reader) inParentheses() (Type, bool) {
-	if !r.take(api.TokSign, "(") {
+	if !r.Take(api.TokSign, "(") {
 		return Type{}, false
 	}
 	t, ok := r.whole()
-	return t, ok && r.take(api.TokSign, ")")
-}
-
-// next is the next token: one of no kind at the end.
-func (r *reader) next() api.Token {
-	if len(r.rest) == 0 {
-		return api.Token{}
-	}
-	return r.rest[0]
-}
-
-// word goes past the next token, which must be there, and tells its text.
-func (r *reader) word() string {
-	text := r.rest[0].Text
-	r.rest = r.rest[1:]
-	return text
-}
-
-func (r *reader) at(kind int, text string) bool {
-	t := r.next()
-	return t.Kind == kind && t.Text == text
-}
-
-// take goes past the next token, if it is this one.
-func (r *reader) take(kind int, text string) bool {
-	ok := r.at(kind, text)
-	if ok {
-		r.word()
-	}
-	return ok
+	return t, ok && r.Take(api.TokSign, ")")
 }

@@ -1,0 +1,33 @@
+package coerce
+
+import (
+	"savant/api"
+	"savant/types"
+)
+
+// saysNothing is thrown where a coercion says nothing by the rules.
+type saysNothing struct{}
+
+// must throws, if what a rule asks is not so.
+func must(ok bool) {
+	if !ok {
+		panic(saysNothing{})
+	}
+}
+
+// Says tells what a coercion says by the rules: that l is r.
+func Says(givens []Given, c Co) (l, r types.Type, e api.Errno) {
+	defer func() {
+		switch thrown := recover().(type) {
+		case nil:
+		case saysNothing:
+			e = api.ErrCo
+		default:
+			panic(thrown)
+		}
+	}()
+	p := newProver(givens)
+	s := p.says(c)
+	w := p.pool.writer()
+	return w.typeOf(s.l, 0), w.typeOf(s.r, 0), api.OK
+}
