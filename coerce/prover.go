@@ -3,22 +3,24 @@ package coerce
 import (
 	"savant/api"
 	"savant/naming"
+	"savant/sharing"
+	"savant/types"
 )
 
-// sides are what a coercion says: that l is r.
-type sides struct{ l, r *node }
+// sides are what a coercion says: that l is r. Types that coercions make of short texts may be too great to be written.
+type sides struct{ l, r *sharing.Node }
 
 // prover goes by the chapter's rules.
 type prover struct {
-	pool   pool
+	pool   sharing.Pool
 	givens map[string]Given
 	laid   map[string]sides // what givens say, of those that were asked for
-	stands map[string]*node // the new names in the places of those of the CoAlls around
+	news   map[string]int   // the new names in the places of those of the CoAlls around
 	made   int              // how many new names there were
 }
 
 func newProver(givens []Given) *prover {
-	p := &prover{pool: pool{}, givens: map[string]Given{}, laid: map[string]sides{}, stands: map[string]*node{}}
+	p := &prover{pool: sharing.Pool{}, givens: map[string]Given{}, laid: map[string]sides{}, news: map[string]int{}}
 	for _, g := range givens {
 		p.givens[g.Name] = g
 	}
@@ -31,7 +33,7 @@ func (p *prover) says(c Co) sides {
 	case api.CoVar:
 		return p.given(c.Name)
 	case api.CoRefl:
-		t := p.pool.lay(c.T, p.stands)
+		t := p.lay(c.T, p.news)
 		return sides{l: t, r: t}
 	case api.CoAll:
 		return p.forAll(c)
@@ -61,6 +63,12 @@ func (p *prover) byKids(c Co, kids []sides) sides {
 	return p.ofArgs(api.Con, c.Name, kids)
 }
 
+// lay is t's node, with new names in the places of these.
+func (p *prover) lay(t types.Type, news map[string]int) *sharing.Node {
+	must(isType(t))
+	return p.pool.Lay(t, news)
+}
+
 // given tells what a given says. Its types' names are not those of the CoAlls around.
 func (p *prover) given(name string) sides {
 	if s, ok := p.laid[name]; ok {
@@ -68,7 +76,7 @@ func (p *prover) given(name string) sides {
 	}
 	g, ok := p.givens[name]
 	must(ok)
-	s := sides{l: p.pool.lay(g.L, nil), r: p.pool.lay(g.R, nil)}
+	s := sides{l: p.lay(g.L, nil), r: p.lay(g.R, nil)}
 	p.laid[name] = s
 	return s
 }
@@ -79,25 +87,25 @@ func (p *prover) forAll(c Co) sides {
 	for ; c.Kind == api.CoAll; c = c.Kids[0] {
 		must(c.hasItsKids())
 		p.made++
-		defer naming.Cover(p.stands, c.Name, p.pool.node(newName, "", p.made))()
+		defer naming.Cover(p.news, c.Name, p.made)()
 	}
 	last := p.made
 	s := p.says(c)
-	return sides{l: p.pool.forAll(first, last, s.l), r: p.pool.forAll(first, last, s.r)}
+	return sides{l: p.pool.ForAll(first, last, s.l), r: p.pool.ForAll(first, last, s.r)}
 }
 
 // instance takes CoInsts that stand right within one another together, likewise, as far as there are for alls.
 func (p *prover) instance(c Co) sides {
-	var us []*node
+	var us []*sharing.Node
 	for ; c.Kind == api.CoInst; c = c.Kids[0] {
 		must(c.hasItsKids())
-		us = append(us, p.pool.lay(c.T, p.stands))
+		us = append(us, p.lay(c.T, p.news))
 	}
 	s := p.says(c)
 	for len(us) > 0 {
 		rest := max(0, len(us)-forAlls(s))
 		must(rest < len(us))
-		s = sides{l: p.pool.instance(s.l, us[rest:]), r: p.pool.instance(s.r, us[rest:])}
+		s = sides{l: p.pool.Instance(s.l, us[rest:]), r: p.pool.Instance(s.r, us[rest:])}
 		us = us[:rest]
 	}
 	return s
@@ -106,7 +114,7 @@ func (p *prover) instance(c Co) sides {
 // forAlls is how many for alls both sides begin with.
 func forAlls(s sides) int {
 	n := 0
-	for l, r := s.l, s.r; l.kind == api.All && r.kind == api.All; l, r = l.args[0], r.args[0] {
+	for l, r := s.l, s.r; l.Kind == api.All && r.Kind == api.All; l, r = l.Args[0], r.Args[0] {
 		n++
 	}
 	return n
@@ -114,16 +122,16 @@ func forAlls(s sides) int {
 
 // ofArgs tells of types that have arguments what these say.
 func (p *prover) ofArgs(kind int, name string, args []sides) sides {
-	var l, r []*node
+	var l, r []*sharing.Node
 	for _, a := range args {
 		l, r = append(l, a.l), append(r, a.r)
 	}
-	return sides{l: p.pool.node(kind, name, 0, l...), r: p.pool.node(kind, name, 0, r...)}
+	return sides{l: p.pool.Node(kind, name, 0, l...), r: p.pool.Node(kind, name, 0, r...)}
 }
 
 func nth(n int, s sides) sides {
-	must(s.l.kind == s.r.kind && s.l.name == s.r.name && len(s.l.args) == len(s.r.args))
-	must(s.l.kind == api.Con || s.l.kind == api.Fun)
-	must(0 <= n && n < len(s.l.args))
-	return sides{l: s.l.args[n], r: s.r.args[n]}
+	must(s.l.Kind == s.r.Kind && s.l.Name == s.r.Name && len(s.l.Args) == len(s.r.Args))
+	must(s.l.Kind == api.Con || s.l.Kind == api.Fun)
+	must(0 <= n && n < len(s.l.Args))
+	return sides{l: s.l.Args[n], r: s.r.Args[n]}
 }

@@ -28,6 +28,6 @@ func Says(givens []Given, c Co) (l, r types.Type, e api.Errno) {
 	}()
 	p := newProver(givens)
 	s := p.says(c)
-	w := p.pool.writer()
-	return w.typeOf(s.l, 0), w.typeOf(s.r, 0), api.OK
+	w := p.pool.Writer()
+	return w.Type(s.l, 0), w.Type(s.r, 0), api.OK
 }
