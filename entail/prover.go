@@ -5,6 +5,7 @@ import (
 
 	"savant/api"
 	"savant/coerce"
+	"savant/joining"
 	"savant/sharing"
 )
 
@@ -17,21 +18,21 @@ type goal struct {
 // link is what leads from a type towards the root of its tree.
 type link struct {
 	to    *sharing.Node
-	by    *equation
+	by    *joining.Equation
 	depth int // how many links there are up to the root
 }
 
-// prover makes coercions of what a solver found. What is proved once is not gone through again, for proofs have the same ones in them at many places.
+// prover makes coercions of a solution. What is proved once is not gone through again, for proofs have the same ones in them at many places.
 type prover struct {
-	*solver
+	solution
 	writer  *sharing.Writer
 	links   map[*sharing.Node]link // the equations that joined types make trees of these
-	reasons map[*equation]coerce.Co
+	reasons map[*joining.Equation]coerce.Co
 	proofs  map[goal]coerce.Co
 }
 
-func newProver(s *solver) *prover {
-	return &prover{solver: s, writer: s.pool.Writer(), links: map[*sharing.Node]link{}, reasons: map[*equation]coerce.Co{}, proofs: map[goal]coerce.Co{}}
+func newProver(s solution) *prover {
+	return &prover{solution: s, writer: s.pool.Writer(), links: map[*sharing.Node]link{}, reasons: map[*joining.Equation]coerce.Co{}, proofs: map[goal]coerce.Co{}}
 }
 
 // proof is a coercion that says what the goal is.
@@ -49,7 +50,7 @@ func (p *prover) proof(g goal) coerce.Co {
 
 // parts are coercions that make a proof of the goal, one behind the other.
 func (p *prover) parts(g goal) []coerce.Co {
-	if p.head(g.l) == p.head(g.r) {
+	if p.Head(g.l) == p.Head(g.r) {
 		return p.way(g.l, g.r)
 	}
 	within := goal{l: p.shape(g.l), r: p.shape(g.r), around: g.around}
@@ -60,7 +61,7 @@ func (p *prover) parts(g goal) []coerce.Co {
 // shape is t, or what it stands for, if it is a variable.
 func (p *prover) shape(t *sharing.Node) *sharing.Node {
 	if t.Kind == api.Var {
-		return p.head(t)
+		return p.Head(t)
 	}
 	return t
 }
@@ -109,8 +110,8 @@ func (p *prover) plant(root *sharing.Node) {
 	p.links[root] = link{}
 	for open := []*sharing.Node{root}; len(open) > 0; open = open[1:] {
 		to := open[0]
-		for _, q := range p.joined[to] {
-			t := q.other(to)
+		for _, q := range p.Joined(to) {
+			t := other(q, to)
 			if _, met := p.links[t]; !met {
 				p.links[t] = link{to: to, by: q, depth: p.links[to].depth + 1}
 				open = append(open, t)
@@ -120,32 +121,32 @@ func (p *prover) plant(root *sharing.Node) {
 }
 
 // other is the side of q that t is not.
-func (q *equation) other(t *sharing.Node) *sharing.Node {
-	if t == q.l {
-		return q.r
+func other(q *joining.Equation, t *sharing.Node) *sharing.Node {
+	if t == q.L {
+		return q.R
 	}
-	return q.l
+	return q.L
 }
 
 // from proves that t, which is a side of q, is the other one.
-func (p *prover) from(t *sharing.Node, q *equation) coerce.Co {
+func (p *prover) from(t *sharing.Node, q *joining.Equation) coerce.Co {
 	c, ok := p.reasons[q]
 	if !ok {
 		c = p.reason(q)
 		p.reasons[q] = c
 	}
-	if t == q.l {
+	if t == q.L {
 		return c
 	}
 	return coerce.Co{Kind: api.CoSym, Kids: []coerce.Co{c}}
 }
 
 // reason proves that q's left side is its right one.
-func (p *prover) reason(q *equation) coerce.Co {
-	if q.of == nil {
-		return coerce.Co{Kind: api.CoVar, Name: q.given}
+func (p *prover) reason(q *joining.Equation) coerce.Co {
+	if q.Of == nil {
+		return coerce.Co{Kind: api.CoVar, Name: q.Given}
 	}
-	return coerce.Co{Kind: api.CoNth, N: q.n, Kids: []coerce.Co{chain(p.way(q.of.l, q.of.r))}}
+	return coerce.Co{Kind: api.CoNth, N: q.N, Kids: []coerce.Co{chain(p.way(q.Of.L, q.Of.R))}}
 }
 
 // chain is one coercion of some, one behind the other. It is halved again and again, so that not too many stand within one another.

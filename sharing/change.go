@@ -6,7 +6,7 @@ import "savant/api"
 func (p Pool) ForAll(first, last int, t *Node) *Node {
 	c := change{pool: p, done: map[spot]*Node{}}
 	c.isIn = func(t *Node, _ int) bool { return t.newest >= first }
-	c.put = func(name *Node, around int) *Node { return p.Node(boundName, "", around+last-name.N) }
+	c.put = func(name *Node, around int) *Node { return p.Node(BoundName, "", around+last-name.N) }
 	t = c.changed(t, 0)
 	for range last - first + 1 {
 		t = p.Node(api.All, "", 0, t)

@@ -44,7 +44,7 @@ func (l *layer) laid(t types.Type) *Node {
 
 func (l *layer) variable(name string) *Node {
 	if n, ok := l.bound[name]; ok {
-		return l.pool.Node(boundName, "", l.around-1-n)
+		return l.pool.Node(BoundName, "", l.around-1-n)
 	}
 	if n, ok := l.news[name]; ok {
 		return l.pool.Node(newName, "", n)

@@ -10,7 +10,7 @@ import (
 
 // Kinds of nodes beside those of types.
 const (
-	boundName = -1 // a variable that a for all around binds: N tells how many other for alls are between the two
+	BoundName = -1 // a variable that a for all around binds: N tells how many other for alls are between the two
 	newName   = -2 // the N-th new name, which is in no text
 )
 
@@ -71,7 +71,7 @@ func asks(t *Node) (open, newest int) {
 	switch t.Kind {
 	case api.All:
 		open = max(open-1, 0)
-	case boundName:
+	case BoundName:
 		open = t.N + 1
 	case newName:
 		newest = t.N

@@ -182,6 +182,69 @@ func TestGreatTypesEnd(t *testing.T) {
 	}
 }
 
+// The way from a type ends where nothing stands for it, however often and from wherever it is gone.
+func TestEnd(t *testing.T) {
+	p := sharing.Pool{}
+	var l []*sharing.Node
+	stands := map[*sharing.Node]*sharing.Node{}
+	for i := range 100 {
+		l = append(l, p.Node(api.Meta, "", i))
+		if i > 0 {
+			stands[l[i-1]] = l[i]
+		}
+	}
+	for range 3 {
+		for _, from := range []int{50, 0, 99, 98, 1} {
+			if got := sharing.End(stands, l[from]); got != l[99] {
+				t.Error(from, got.N)
+			}
+		}
+	}
+	if x := lay(t, p, "a"); sharing.End(stands, x) != x || len(stands) != 99 {
+		t.Error("another one")
+	}
+}
+
+// Types fit that are the same, if their arguments are.
+func TestFits(t *testing.T) {
+	p := sharing.Pool{}
+	groups := [][]string{{"a"}, {"b"}, {"?1"}, {"?2"}, {"T"}, {"T a", "T Int"}, {"U a"}, {"T a b", "T b a"}, {"a -> b", "b -> T a"}, {"forall a. a", "forall a b. T a"}}
+	for i, g := range groups {
+		for j, h := range groups {
+			for _, s := range g {
+				for _, u := range h {
+					if lay(t, p, s).Fits(lay(t, p, u)) != (i == j) {
+						t.Errorf("%q and %q", s, u)
+					}
+				}
+			}
+		}
+	}
+}
+
+// What stands for types, or for what is in them, comes into its place, and what stands for something in that.
+func TestFiller(t *testing.T) {
+	p := sharing.Pool{}
+	stands := map[*sharing.Node]*sharing.Node{lay(t, p, "?1"): lay(t, p, "T a"), lay(t, p, "a"): lay(t, p, "b -> ?2"), lay(t, p, "?3"): lay(t, p, "?2")}
+	f := p.Filler(func(x *sharing.Node) *sharing.Node { return sharing.End(stands, x) })
+	for s, want := range map[string]string{"?2": "?2", "?3": "?2", "?1": "T (b -> ?2)", "P ?1 a c": "P (T (b -> ?2)) (b -> ?2) c", "forall a. a -> ?3": "forall a. a -> ?2", "forall b. b -> a": "forall d. d -> b -> ?2"} {
+		if got := f.Filled(lay(t, p, s)); got != lay(t, p, want) {
+			t.Errorf("%q is filled %q", s, p.Writer().Type(got, 0).Print())
+		}
+	}
+	for i := range 60 {
+		next := p.Node(api.Meta, "", 101+i)
+		stands[p.Node(api.Meta, "", 100+i)] = p.Node(api.Fun, "", 0, next, next)
+	}
+	x := f.Filled(lay(t, p, "?100"))
+	for range 60 {
+		x = x.Args[0]
+	}
+	if x != lay(t, p, "?160") {
+		t.Error(x.N)
+	}
+}
+
 // What is handed in stays as it was.
 func TestNothingChanges(t *testing.T) {
 	const s = "forall a. T a (b -> forall c. ?1)"

@@ -29,7 +29,7 @@ func (w *Writer) Type(t *Node, around int) types.Type {
 	switch {
 	case t.written.Kind != 0:
 		return t.written
-	case t.Kind == boundName:
+	case t.Kind == BoundName:
 		return types.Type{Kind: api.Var, Name: w.Name(around - 1 - t.N)}
 	}
 	s := spot{t: t, around: around}
