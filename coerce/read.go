@@ -42,8 +42,7 @@ func (r *reader) inBrackets() (types.Type, bool) {
 	if !r.Take(api.TokSign, "<") {
 		return types.Type{}, false
 	}
-	t, rest, ok := types.Read(r.Rest)
-	r.Rest = rest
+	t, ok := reading.Piece(&r.Tokens, types.Read)
 	return t, ok && r.Take(api.TokSign, ">")
 }
 

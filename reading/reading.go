@@ -23,6 +23,12 @@ func Whole[T any](s string, read func(l []api.Token) (t T, rest []api.Token, ok 
 // Tokens are those that are still to be read.
 type Tokens struct{ Rest []api.Token }
 
+// Piece reads what read finds at the begin of the tokens, and goes past it.
+func Piece[T any](r *Tokens, read func(l []api.Token) (t T, rest []api.Token, ok bool)) (t T, ok bool) {
+	t, r.Rest, ok = read(r.Rest)
+	return t, ok
+}
+
 // Next is the next token: one of no kind at the end.
 func (r *Tokens) Next() api.Token {
 	if len(r.Rest) == 0 {

@@ -66,3 +66,14 @@ func TestTokens(t *testing.T) {
 		t.Error("the tokens are changed")
 	}
 }
+
+// A piece is read at the begin of tokens, and gone past; others go on behind it.
+func TestPiece(t *testing.T) {
+	r := reading.Tokens{Rest: []api.Token{{Kind: api.TokVar, Text: "a"}, {Kind: api.TokVar, Text: "b"}, {Kind: api.TokSign, Text: ")"}}}
+	if s, ok := reading.Piece(&r, words); s != "a b" || !ok || !r.At(api.TokSign, ")") {
+		t.Error(s, ok, r.Rest)
+	}
+	if s, ok := reading.Piece(&r, words); s != "" || ok {
+		t.Error(s, ok)
+	}
+}

@@ -92,7 +92,5 @@ func (r *reader) otherSide() (types.Type, bool) {
 
 // whole reads a type.
 func (r *reader) whole() (types.Type, bool) {
-	t, rest, ok := types.Read(r.Rest)
-	r.Rest = rest
-	return t, ok
+	return reading.Piece(&r.Tokens, types.Read)
 }
