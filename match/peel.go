@@ -3,6 +3,7 @@ package match
 import (
 	"savant/api"
 	"savant/naming"
+	"savant/putting"
 	"savant/types"
 )
 
@@ -21,5 +22,5 @@ func peel(t types.Type, next func() string) (bound []string, body types.Type) {
 		place[t.Name] = types.Type{Kind: api.Var, Name: name}
 		t = t.Args[0]
 	}
-	return bound, put(t, place)
+	return bound, putting.AtNames(t, place)
 }

@@ -22,6 +22,14 @@ func Put(t types.Type, place func(leaf types.Type) (u types.Type, ok bool)) type
 	return p.put(t)
 }
 
+// AtNames is t with types in the places of names that are free in it.
+func AtNames(t types.Type, found map[string]types.Type) types.Type {
+	return Put(t, func(leaf types.Type) (types.Type, bool) {
+		u, ok := found[leaf.Name]
+		return u, ok && leaf.Kind == api.Var
+	})
+}
+
 // freeInPut are the names that are free in what is put into t.
 func freeInPut(t types.Type, place func(leaf types.Type) (types.Type, bool)) map[string]struct{} {
 	free := map[string]struct{}{}

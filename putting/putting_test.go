@@ -54,6 +54,21 @@ func TestPut(t *testing.T) {
 	}
 }
 
+// Of names alone that are free: an unknown has none.
+func TestAtNames(t *testing.T) {
+	found := map[string]types.Type{"a": parsed(t, "b"), "b": parsed(t, "T a"), "": parsed(t, "U"), "A": parsed(t, "U")}
+	for s, want := range map[string]string{
+		"a -> b -> a":             "b -> T a -> b",
+		"A a ?0 c":                "A b ?0 c",
+		"forall a. a -> b":        "forall c. c -> T a",
+		"(forall b. b -> a) -> b": "(forall c. c -> b) -> T a",
+	} {
+		if got := putting.AtNames(parsed(t, s), found); !got.Same(parsed(t, want)) {
+			t.Errorf("%q is %q, not %q", s, got.Print(), want)
+		}
+	}
+}
+
 // Names that are bound stay, where nothing that is put has them free.
 func TestNamesThatStay(t *testing.T) {
 	for _, c := range [][3]string{
