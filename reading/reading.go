@@ -60,3 +60,20 @@ func (r *Tokens) TakeAny(kind int) (text string, ok bool) {
 	}
 	return t.Text, r.Take(kind, t.Text)
 }
+
+// Sign goes past the next token, if it is this sign.
+func (r *Tokens) Sign(text string) bool { return r.Take(api.TokSign, text) }
+
+// Word goes past the next token, if it is this key word.
+func (r *Tokens) Word(text string) bool { return r.Take(api.TokKey, text) }
+
+// AtVariable tells whether the next token is a variable.
+func (r *Tokens) AtVariable() bool { return r.Next().Kind == api.TokVar }
+
+// Variable goes past the next token, if it is a variable, and tells its name.
+func (r *Tokens) Variable() (name string, ok bool) { return r.TakeAny(api.TokVar) }
+
+// Variables reads as many as there are; there may be none.
+func (r *Tokens) Variables() ([]string, bool) {
+	return Longer(nil, r.AtVariable, r.Variable)
+}

@@ -1,9 +1,8 @@
 package syntax
 
 import (
-	"strings"
-
 	"savant/api"
+	"savant/writing"
 )
 
 // Places where an expression stands. What needs parentheses in one of them needs them in those behind it too.
@@ -16,7 +15,7 @@ const (
 // Print is the text of a program.
 func Print(l []Decl) string {
 	var w writer
-	separate(&w, l, w.decl)
+	writing.Separate(&w.Text, l, w.decl)
 	return w.String()
 }
 
@@ -28,56 +27,25 @@ func (e Expr) Print() string {
 }
 
 // writer has methods that write one piece of the grammar each.
-type writer struct{ strings.Builder }
-
-// put writes texts one behind the other.
-func (w *writer) put(texts ...string) {
-	for _, s := range texts {
-		w.WriteString(s)
-	}
-}
-
-// separate writes the pieces of l with `; ` between them.
-func separate[T any](w *writer, l []T, piece func(t T)) {
-	for i, t := range l {
-		if i > 0 {
-			w.put("; ")
-		}
-		piece(t)
-	}
-}
-
-// brace writes the pieces of l in braces.
-func brace[T any](w *writer, l []T, piece func(t T)) {
-	w.put("{")
-	separate(w, l, piece)
-	w.put("}")
-}
+type writer struct{ writing.Text }
 
 func (w *writer) decl(d Decl) {
 	switch d.Kind {
 	case api.DeclData:
-		w.put("data ", d.Name)
-		w.names(d.Params)
-		w.put(" ")
-		brace(w, d.Cons, w.con)
+		w.Put("data ", d.Name)
+		w.Names(" ", d.Params)
+		w.Put(" ")
+		writing.Brace(&w.Text, d.Cons, w.con)
 	case api.DeclSig:
-		w.put(d.Name, " : ", d.T.Print())
+		w.Put(d.Name, " : ", d.T.Print())
 	case api.DeclBind:
-		w.put(d.Name, " = ")
+		w.Put(d.Name, " = ")
 		w.expr(d.E, alone)
 	}
 }
 
 func (w *writer) con(c Con) {
-	w.put(c.Name, " : ", c.T.Print())
-}
-
-// names writes each with a blank ahead of it.
-func (w *writer) names(l []string) {
-	for _, name := range l {
-		w.put(" ", name)
-	}
+	w.Put(c.Name, " : ", c.T.Print())
 }
 
 func (w *writer) expr(e Expr, place int) {
@@ -85,9 +53,9 @@ func (w *writer) expr(e Expr, place int) {
 		w.bare(e)
 		return
 	}
-	w.put("(")
+	w.Put("(")
 	w.bare(e)
-	w.put(")")
+	w.Put(")")
 }
 
 // mustBeInParentheses is not asked of those that a type is told of: they have theirs wherever they stand.
@@ -104,43 +72,43 @@ func (e Expr) mustBeInParentheses(place int) bool {
 func (w *writer) bare(e Expr) {
 	switch e.Kind {
 	case api.ELam:
-		w.put(`\`, e.Name, " -> ")
+		w.Put(`\`, e.Name, " -> ")
 		w.expr(e.kid(0), alone)
 	case api.EApp:
 		w.expr(e.kid(0), leftKid)
-		w.put(" ")
+		w.Put(" ")
 		w.expr(e.kid(1), rightKid)
 	case api.ELet:
 		w.let(e)
 	case api.ECase:
-		w.put("case ")
+		w.Put("case ")
 		w.expr(e.kid(0), alone)
-		w.put(" of ")
-		brace(w, e.Alts, w.alternative)
+		w.Put(" of ")
+		writing.Brace(&w.Text, e.Alts, w.alternative)
 	case api.EAnn:
-		w.put("(")
+		w.Put("(")
 		w.expr(e.kid(0), alone)
-		w.put(" : ", e.T.Print(), ")")
+		w.Put(" : ", e.T.Print(), ")")
 	default:
-		w.put(e.Name)
+		w.Put(e.Name)
 	}
 }
 
 func (w *writer) let(e Expr) {
-	w.put("let ", e.Name)
+	w.Put("let ", e.Name)
 	if e.Told {
-		w.put(" : ", e.T.Print())
+		w.Put(" : ", e.T.Print())
 	}
-	w.put(" = ")
+	w.Put(" = ")
 	w.expr(e.kid(0), alone)
-	w.put(" in ")
+	w.Put(" in ")
 	w.expr(e.kid(1), alone)
 }
 
 func (w *writer) alternative(a Alt) {
-	w.put(a.Con)
-	w.names(a.Vars)
-	w.put(" -> ")
+	w.Put(a.Con)
+	w.Names(" ", a.Vars)
+	w.Put(" -> ")
 	w.expr(a.Body, alone)
 }
 

@@ -18,58 +18,21 @@ func ahead[T any](piece func(r *reader) (T, bool)) func(l []api.Token) (t T, res
 	}
 }
 
-// longer is l with pieces behind it, one wherever isNext tells that one stands next. It is cut at its end first: what is laid behind it must not overwrite what somebody else's list has there.
-func longer[T any](l []T, isNext func() bool, piece func() (T, bool)) ([]T, bool) {
-	l = l[:len(l):len(l)]
-	for isNext() {
-		t, ok := piece()
-		if !ok {
-			return nil, false
-		}
-		l = append(l, t)
-	}
-	return l, true
-}
-
-// separated reads one piece or more, with `;` between them.
-func separated[T any](r *reader, piece func() (T, bool)) ([]T, bool) {
-	first, ok := piece()
-	if !ok {
-		return nil, false
-	}
-	return longer([]T{first}, r.separator, piece)
-}
-
-// inBraces reads pieces with `;` between them, or none, in braces.
-func inBraces[T any](r *reader, piece func() (T, bool)) (l []T, ok bool) {
-	if !r.sign("{") {
-		return nil, false
-	}
-	if r.sign("}") {
-		return nil, true
-	}
-	l, ok = separated(r, piece)
-	return l, ok && r.sign("}")
-}
-
 func (r *reader) program() ([]Decl, bool) {
-	if len(r.Rest) == 0 {
-		return nil, true
-	}
-	return separated(r, r.decl)
+	return reading.UpToEnd(&r.Tokens, r.decl)
 }
 
 func (r *reader) decl() (d Decl, ok bool) {
-	if r.word("data") {
+	if r.Word("data") {
 		return r.data()
 	}
-	d.Name, ok = r.variable()
+	d.Name, ok = r.Variable()
 	switch {
 	case !ok:
-	case r.sign(":"):
+	case r.Sign(":"):
 		d.Kind = api.DeclSig
 		d.T, ok = r.whole()
-	case r.sign("="):
+	case r.Sign("="):
 		d.Kind = api.DeclBind
 		d.E, ok = r.expr()
 	default:
@@ -84,15 +47,15 @@ func (r *reader) data() (d Decl, ok bool) {
 	if d.Name, ok = r.TakeAny(api.TokCon); !ok {
 		return d, false
 	}
-	if d.Params, ok = r.variables(); !ok {
+	if d.Params, ok = r.Variables(); !ok {
 		return d, false
 	}
-	d.Cons, ok = inBraces(r, r.con)
+	d.Cons, ok = reading.InBraces(&r.Tokens, r.con)
 	return d, ok
 }
 
 func (r *reader) con() (c Con, ok bool) {
-	if c.Name, ok = r.TakeAny(api.TokCon); !ok || !r.sign(":") {
+	if c.Name, ok = r.TakeAny(api.TokCon); !ok || !r.Sign(":") {
 		return c, false
 	}
 	c.T, ok = r.whole()
@@ -101,11 +64,11 @@ func (r *reader) con() (c Con, ok bool) {
 
 func (r *reader) expr() (Expr, bool) {
 	switch {
-	case r.sign(`\`):
+	case r.Sign(`\`):
 		return r.lambda()
-	case r.word("let"):
+	case r.Word("let"):
 		return r.let()
-	case r.word("case"):
+	case r.Word("case"):
 		return r.choice()
 	}
 	return r.application()
@@ -113,8 +76,8 @@ func (r *reader) expr() (Expr, bool) {
 
 // lambda reads what stands behind `\`.
 func (r *reader) lambda() (Expr, bool) {
-	name, ok := r.variable()
-	if !ok || !r.sign("->") {
+	name, ok := r.Variable()
+	if !ok || !r.Sign("->") {
 		return Expr{}, false
 	}
 	kid, ok := r.expr()
@@ -124,19 +87,19 @@ func (r *reader) lambda() (Expr, bool) {
 // let reads what stands behind the word let.
 func (r *reader) let() (e Expr, ok bool) {
 	e.Kind = api.ELet
-	if e.Name, ok = r.variable(); !ok {
+	if e.Name, ok = r.Variable(); !ok {
 		return e, false
 	}
-	if e.Told = r.sign(":"); e.Told {
+	if e.Told = r.Sign(":"); e.Told {
 		if e.T, ok = r.whole(); !ok {
 			return e, false
 		}
 	}
-	if !r.sign("=") {
+	if !r.Sign("=") {
 		return e, false
 	}
 	first, ok := r.expr()
-	if !ok || !r.word("in") {
+	if !ok || !r.Word("in") {
 		return e, false
 	}
 	second, ok := r.expr()
@@ -148,11 +111,11 @@ func (r *reader) let() (e Expr, ok bool) {
 func (r *reader) choice() (e Expr, ok bool) {
 	e.Kind = api.ECase
 	kid, ok := r.expr()
-	if !ok || !r.word("of") {
+	if !ok || !r.Word("of") {
 		return e, false
 	}
 	e.Kids = []Expr{kid}
-	e.Alts, ok = inBraces(r, r.alternative)
+	e.Alts, ok = reading.InBraces(&r.Tokens, r.alternative)
 	return e, ok
 }
 
@@ -160,7 +123,7 @@ func (r *reader) alternative() (a Alt, ok bool) {
 	if a.Con, ok = r.TakeAny(api.TokCon); !ok {
 		return a, false
 	}
-	if a.Vars, ok = r.variables(); !ok || !r.sign("->") {
+	if a.Vars, ok = r.Variables(); !ok || !r.Sign("->") {
 		return a, false
 	}
 	a.Body, ok = r.expr()
@@ -172,7 +135,7 @@ func (r *reader) application() (Expr, bool) {
 	if !ok {
 		return e, false
 	}
-	args, ok := longer(nil, r.atAtom, r.atom)
+	args, ok := reading.Longer(nil, r.atAtom, r.atom)
 	for _, a := range args {
 		e = Expr{Kind: api.EApp, Kids: []Expr{e, a}}
 	}
@@ -180,14 +143,14 @@ func (r *reader) application() (Expr, bool) {
 }
 
 func (r *reader) atAtom() bool {
-	return r.atVariable() || r.Next().Kind == api.TokCon || r.At(api.TokSign, "(")
+	return r.AtVariable() || r.Next().Kind == api.TokCon || r.At(api.TokSign, "(")
 }
 
 func (r *reader) atom() (Expr, bool) {
-	if name, ok := r.variable(); ok {
+	if name, ok := r.Variable(); ok {
 		return Expr{Kind: api.EVar, Name: name}, true
 	}
-	if r.sign("(") {
+	if r.Sign("(") {
 		return r.inParentheses()
 	}
 	name, ok := r.TakeAny(api.TokCon)
@@ -197,32 +160,15 @@ func (r *reader) atom() (Expr, bool) {
 // inParentheses reads what stands behind `(`.
 func (r *reader) inParentheses() (Expr, bool) {
 	e, ok := r.expr()
-	if ok && r.sign(":") {
+	if ok && r.Sign(":") {
 		var t types.Type
 		t, ok = r.whole()
 		e = Expr{Kind: api.EAnn, T: t, Kids: []Expr{e}}
 	}
-	return e, ok && r.sign(")")
+	return e, ok && r.Sign(")")
 }
 
 // whole reads a type.
 func (r *reader) whole() (types.Type, bool) {
 	return reading.Piece(&r.Tokens, types.Read)
 }
-
-// variables reads as many as there are; there may be none.
-func (r *reader) variables() ([]string, bool) {
-	return longer(nil, r.atVariable, r.variable)
-}
-
-func (r *reader) atVariable() bool { return r.Next().Kind == api.TokVar }
-
-func (r *reader) variable() (name string, ok bool) { return r.TakeAny(api.TokVar) }
-
-func (r *reader) separator() bool { return r.sign(";") }
-
-// sign goes past the next token, if it is this sign.
-func (r *reader) sign(text string) bool { return r.Take(api.TokSign, text) }
-
-// word goes past the next token, if it is this key word.
-func (r *reader) word(text string) bool { return r.Take(api.TokKey, text) }

@@ -20,7 +20,7 @@ func isReadAsTold(t *testing.T, l []string) int {
 	s := strings.Join(l, " ")
 	program, e := syntax.Parse(s)
 	x, e2 := syntax.ParseExpr(s)
-	return isOneAsTold(t, s, "program", readings("program", l), trees(program), e) + isOneAsTold(t, s, "expr", readings("expr", l), tree(x), e2)
+	return isOneAsTold(t, s, "program", chapter.Readings("program", l), trees(program), e) + isOneAsTold(t, s, "expr", chapter.Readings("expr", l), tree(x), e2)
 }
 
 func isOneAsTold(t *testing.T, s, piece string, want []string, got string, e api.Errno) int {
