@@ -1,11 +1,6 @@
 package coerce
 
-import (
-	"slices"
-
-	"savant/api"
-	"savant/types"
-)
+import "savant/api"
 
 // form is how coercions of a kind are written in parentheses: a word; then what they have, in the order of these fields.
 type form struct {
@@ -38,30 +33,4 @@ func formOf(isIt func(f form) bool) (f form, ok bool) {
 		}
 	}
 	return form{}, false
-}
-
-// hasItsKids tells whether c has as many kids as a coercion of its kind. Of others no rule speaks.
-func (c Co) hasItsKids() bool {
-	if c.Kind == api.CoVar || c.Kind == api.CoRefl {
-		return true
-	}
-	f, ok := formOf(func(f form) bool { return f.kind == c.Kind })
-	return ok && (f.kids == anyNumber || f.kids == len(c.Kids))
-}
-
-// isType tells whether t, and each type in it, has as many arguments as a type of its kind. Of others no rule speaks.
-func isType(t types.Type) bool {
-	return hasItsArgs(t) && !slices.ContainsFunc(t.Args, func(a types.Type) bool { return !isType(a) })
-}
-
-func hasItsArgs(t types.Type) bool {
-	switch t.Kind {
-	case api.Var, api.Meta, api.Con:
-		return true
-	case api.Fun:
-		return len(t.Args) == 2
-	case api.All:
-		return len(t.Args) == 1
-	}
-	return false
 }

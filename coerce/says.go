@@ -27,7 +27,7 @@ func Says(givens []Given, c Co) (l, r types.Type, e api.Errno) {
 		}
 	}()
 	p := newProver(givens)
-	s := p.says(c)
-	w := p.pool.Writer()
-	return w.Type(s.l, 0), w.Type(s.r, 0), api.OK
+	s := p.Says(c)
+	w := p.Writer()
+	return w.Type(s.L, 0), w.Type(s.R, 0), api.OK
 }

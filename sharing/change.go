@@ -1,6 +1,10 @@
 package sharing
 
-import "savant/api"
+import (
+	"slices"
+
+	"savant/api"
+)
 
 // ForAll is the type for all of the new names from first to last, with t behind it. No newer name may be in t.
 func (p Pool) ForAll(first, last int, t *Node) *Node {
@@ -23,6 +27,35 @@ func (p Pool) Instance(t *Node, us []*Node) *Node {
 	c.isIn = func(t *Node, around int) bool { return t.open > around }
 	c.put = func(name *Node, around int) *Node { return us[name.N-around] }
 	return c.changed(t, 0)
+}
+
+// Instances are ts, each with types us in the places of the names that its for alls bind, one behind the other: the last type first. False, if one of them is no for all when it is its turn. What stands behind for alls that stand right behind one another is gone through once.
+func (p Pool) Instances(ts, us []*Node) (l []*Node, ok bool) {
+	l = slices.Clone(ts)
+	for len(us) > 0 {
+		n := len(us)
+		for _, t := range l {
+			n = forAlls(t, n)
+		}
+		if n == 0 {
+			return nil, false
+		}
+		rest := len(us) - n
+		for i, t := range l {
+			l[i] = p.Instance(t, us[rest:])
+		}
+		us = us[:rest]
+	}
+	return l, true
+}
+
+// forAlls is how many for alls t begins with, as far as the first so many.
+func forAlls(t *Node, most int) int {
+	n := 0
+	for ; n < most && t.Kind == api.All; t = t.Args[0] {
+		n++
+	}
+	return n
 }
 
 // change puts something in the places of names, which are nodes without arguments.
